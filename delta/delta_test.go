@@ -184,17 +184,20 @@ func (x *plain) merge(o *plain) api.Errno {
 	return api.OK
 }
 
-// plainBehind is the state behind changes in the order in which they are given: the last of them that isn't an update says what there is, and of each column the last set behind it that there is.
+// plainBehind is the state behind changes in the order in which they are given: the last of them that isn't an update says what there is, and of each column of a row that is there the last set behind it that there is.
 func plainBehind(state []api.Cell, live bool, changes []api.Change) ([]api.Cell, bool) {
 	from := len(changes) - 1
 	for from >= 0 && changes[from].Kind == api.OUpdate {
 		from--
 	}
 	if from >= 0 {
-		state, live = changes[from].Row, changes[from].Kind == api.OInsert
+		state, live = nil, changes[from].Kind == api.OInsert
+		if live {
+			state = changes[from].Row
+		}
 	}
 	if !live {
-		return nil, false
+		return state, false
 	}
 	state = slices.Clone(state)
 	for col := range state {
@@ -342,12 +345,12 @@ func same(t *testing.T, d *delta.Delta, x *plain, rows []int, times []int64) {
 		for _, to := range times {
 			for _, live := range []bool{true, false} {
 				want, ok := x.undo(r, state, live, to)
-				if got, is := d.Undo(r, state, live, to); is != ok || !sameRow(got, want) || !is && got != nil {
+				if got, is := d.Undo(r, state, live, to); is != ok || !sameRow(got, want) || len(want) == 0 && got != nil {
 					t.Fatalf("%v: Undo(%d, .., %t, %d) = %v, %t; want %v, %t", x.all, r, live, to, got, is, want, ok)
 				}
 				for _, from := range times {
 					want, ok := x.redo(r, state, live, from, to)
-					if got, is := d.Redo(r, state, live, from, to); is != ok || !sameRow(got, want) || !is && got != nil {
+					if got, is := d.Redo(r, state, live, from, to); is != ok || !sameRow(got, want) || len(want) == 0 && got != nil {
 						t.Fatalf("%v: Redo(%d, .., %t, %d, %d) = %v, %t; want %v, %t", x.all, r, live, from, to, got, is, want, ok)
 					}
 				}
@@ -592,6 +595,43 @@ func TestFarAway(t *testing.T) {
 	}
 }
 
+// P20.1: a state that is handed in for a row that isn't there stays as it is, until an insert or a delete makes it another.
+func TestStateOfNoRow(t *testing.T) {
+	d := delta.New()
+	want := func(from, to int64, cells []api.Cell, live bool) {
+		t.Helper()
+		if got, is := d.Redo(3, row(7, "x"), false, from, to); is != live || !sameRow(got, cells) {
+			t.Errorf("Redo(3, .., false, %d, %d) = %v, %t; want %v, %t", from, to, got, is, cells, live)
+		}
+	}
+	wantBack := func(to int64, cells []api.Cell, live bool) {
+		t.Helper()
+		if got, is := d.Undo(3, row(7, "x"), false, to); is != live || !sameRow(got, cells) {
+			t.Errorf("Undo(3, .., false, %d) = %v, %t; want %v, %t", to, got, is, cells, live)
+		}
+	}
+	want(-1, most, row(7, "x"), false)
+	wantBack(-1, row(7, "x"), false)
+	for _, c := range []api.Change{update(5, to("y")), remove(6), update(7, to("z")), insert(8, row(8, "a")), update(9, to("b"))} {
+		if e := d.Add(place(3, c.Time), c); e != api.OK {
+			t.Fatalf("Add = %d", e)
+		}
+	}
+	want(4, 5, row(7, "x"), false)
+	want(6, 7, row(7, "x"), false)
+	want(4, 6, nil, false)
+	want(4, 7, nil, false)
+	want(4, 8, row(8, "a"), true)
+	want(4, 9, row(8, "b"), true)
+	want(8, 9, row(7, "x"), false)
+	wantBack(9, row(7, "x"), false)
+	wantBack(8, row(7, "x"), false)
+	wantBack(7, row(8, "a"), true)
+	wantBack(6, row(8, "z"), true)
+	wantBack(5, nil, false)
+	wantBack(4, nil, false)
+}
+
 // P20.1: states of all sorts, and changes that don't fit them.
 func TestRedoAndUndo(t *testing.T) {
 	set := func(col int, c api.Cell) api.Set { return api.Set{Col: col, Cell: c} }
@@ -625,9 +665,16 @@ func TestRedoAndUndo(t *testing.T) {
 		{three[:1], true, 1, 2, []api.Cell{number(20)}, true},
 		{nil, true, 1, 2, nil, true},
 		{[]api.Cell{}, true, 0, 0, nil, true},
-		{three, false, 1, 2, nil, false},
-		{three, false, 0, 0, nil, false},
+		{three, false, 1, 2, three, false},
+		{three, false, 0, 0, three, false},
+		{three, false, 6, 7, three, false},
+		{three, false, 5, 6, nil, false},
+		{three, false, 5, 7, nil, false},
+		{three, false, 1, 4, []api.Cell{number(40)}, true},
+		{three[:1], false, 0, 1, three[:1], false},
+		{[]api.Cell{{}}, false, 0, 0, []api.Cell{{}}, false},
 		{nil, false, 1, 2, nil, false},
+		{[]api.Cell{}, false, 0, 0, nil, false},
 		{three, true, 1, 4, []api.Cell{number(40)}, true},
 		{nil, false, 1, 4, []api.Cell{number(40)}, true},
 		{nil, false, 1, 5, []api.Cell{number(52)}, true},
@@ -651,13 +698,14 @@ func TestRedoAndUndo(t *testing.T) {
 		is   bool
 	}{
 		{true, 9, three, true},
-		{false, 9, nil, false},
+		{false, 9, three, false},
 		{true, 8, []api.Cell{number(90), number(2), number(3)}, true},
-		{false, 8, nil, false},
+		{false, 8, three, false},
 		{true, 7, nil, true},
 		{false, 7, nil, true},
 		{true, 6, nil, true},
 		{true, 5, nil, false},
+		{false, 5, nil, false},
 		{true, 4, nil, false},
 		{true, 3, []api.Cell{number(40)}, true},
 		{true, 1, []api.Cell{number(20)}, true},
@@ -1241,9 +1289,11 @@ func TestAnswersAreNew(t *testing.T) {
 			state := copyRow(rowOf(rnd, s.Cols))
 			all = append(all, areasOfRow(state)...)
 			for time := range int64(20) {
-				r, _ := d.Redo(1, state, true, time-1, 20)
-				u, _ := d.Undo(1, state, true, time)
-				all = append(append(all, areasOfRow(r)...), areasOfRow(u)...)
+				for _, live := range []bool{true, false} {
+					r, _ := d.Redo(1, state, live, time-1, 20)
+					u, _ := d.Undo(1, state, live, time)
+					all = append(append(all, areasOfRow(r)...), areasOfRow(u)...)
+				}
 			}
 		}
 		wantApart(t, all)
@@ -1283,12 +1333,14 @@ func spoilAnswers(t *testing.T, d *delta.Delta) {
 		spoilChanges(d.Of(r))
 		state := row(7, "spoilt")
 		given := copyRow(state)
-		redone, _ := d.Redo(r, given, true, -1, 9)
-		undone, _ := d.Undo(r, given, true, -1)
-		spoil(redone)
-		spoil(undone)
-		if !sameRow(given, state) || !sameCell(given[:cap(given)][3], api.Cell{}) {
-			t.Fatalf("Redo or Undo changes the state to %v", given[:cap(given)])
+		for _, live := range []bool{true, false} {
+			redone, _ := d.Redo(r, given, live, -1, 9)
+			undone, _ := d.Undo(r, given, live, -1)
+			spoil(redone)
+			spoil(undone)
+			if !sameRow(given, state) || !sameCell(given[:cap(given)][3], api.Cell{}) {
+				t.Fatalf("Redo or Undo changes the state to %v", given[:cap(given)])
+			}
 		}
 		spoil(given)
 	}

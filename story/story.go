@@ -61,21 +61,18 @@ func Copy(c api.Change) api.Change {
 	return c
 }
 
-// State is a row's state, while changes are done to it; of the zero one the row isn't there.
+// State is a row's state, while changes are done to it; of the zero one the row isn't there, and has no cells.
 type State struct {
-	cells []api.Cell // the list is the state's own, what its cells hold is others'
+	cells []api.Cell // the list is the state's own, what its cells hold is others'; a row that isn't there can have been handed in with some
 	live  bool
 }
 
-// Begin is the state of a row that has these cells, if it is there.
+// Begin is the state of a row that has these cells, there or not.
 func Begin(cells []api.Cell, live bool) State {
-	if !live {
-		return State{}
-	}
-	return State{cells: slices.Clone(cells), live: true}
+	return State{cells: slices.Clone(cells), live: live}
 }
 
-// Do does a change: an update as far as the row has the columns, and a row that isn't there has none.
+// Do does a change: an update as far as the row is there and has the columns.
 func (x *State) Do(c api.Change) {
 	switch c.Kind {
 	case api.OInsert:
@@ -93,7 +90,7 @@ func (x *State) Do(c api.Change) {
 
 // Has tells whether the row is there and has a column.
 func (x *State) Has(col int) bool {
-	return col >= 0 && col < len(x.cells)
+	return x.live && col >= 0 && col < len(x.cells)
 }
 
 // Tell tells the row's cells as a copy, and whether it is there.

@@ -90,7 +90,7 @@ func TestState(t *testing.T) {
 			t.Errorf("it tells %v, %t; want %v, %t", got, is, cells, live)
 		}
 		for _, col := range []int{math.MinInt, -1, 0, 1, 2, math.MaxInt} {
-			if got := x.Has(col); got != (col >= 0 && col < len(cells)) {
+			if got := x.Has(col); got != (live && col >= 0 && col < len(cells)) {
 				t.Errorf("Has(%d) = %t", col, got)
 			}
 		}
@@ -118,6 +118,18 @@ func TestState(t *testing.T) {
 		t.Errorf("an update changes the row that was inserted: %v", first)
 	}
 	x = story.Begin(first, false)
+	want(row(7, "x"), false)
+	x.Do(api.Change{Kind: api.OUpdate, Sets: to("z")})
+	want(row(7, "x"), false)
+	told, _ = x.Tell()
+	told[1].B[0] = 'z'
+	want(row(7, "x"), false)
+	x.Do(api.Change{Kind: api.ODelete})
+	want(nil, false)
+	x = story.Begin(first, false)
+	x.Do(api.Change{Kind: api.OInsert, Row: first[:1]})
+	want(row(7, "")[:1], true)
+	x = story.Begin(nil, false)
 	want(nil, false)
 	x = story.Begin(nil, true)
 	want(nil, true)
