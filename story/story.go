@@ -1,4 +1,4 @@
-// Package story has what the layers of changes (19 and on) share: what a change may bring, copies of changes, and what they make of a row.
+// Package story has what the layers of changes (19 and on) share: what a change may bring, copies of changes, what they make of a row, and what takes them back.
 package story
 
 import (
@@ -86,6 +86,26 @@ func (x *State) Do(c api.Change) {
 	case api.ODelete:
 		*x = State{}
 	}
+}
+
+// Undo is the change that takes the state behind a change back to this one: an update's, of those columns that the row has here.
+func (x *State) Undo(c api.Change) api.Change {
+	undo := api.Change{Time: c.Time}
+	switch c.Kind {
+	case api.OInsert:
+		undo.Kind = api.ODelete
+	case api.OUpdate:
+		undo.Kind = api.OUpdate
+		for _, set := range c.Sets {
+			if x.Has(set.Col) {
+				undo.Sets = append(undo.Sets, api.Set{Col: set.Col, Cell: copyCell(x.cells[set.Col])})
+			}
+		}
+	case api.ODelete:
+		undo.Kind = api.OInsert
+		undo.Row = CopyCells(x.cells)
+	}
+	return undo
 }
 
 // Has tells whether the row is there and has a column.

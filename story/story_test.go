@@ -136,3 +136,28 @@ func TestState(t *testing.T) {
 	x = story.State{}
 	want(nil, false)
 }
+
+func TestUndo(t *testing.T) {
+	first := row(7, "x")
+	there, gone := story.Begin(first, true), story.Begin(nil, false)
+	is := func(got, want api.Change) {
+		t.Helper()
+		same := slices.EqualFunc(got.Sets, want.Sets, func(a, b api.Set) bool { return a.Col == b.Col && sameCell(a.Cell, b.Cell) })
+		if got.Time != want.Time || got.Kind != want.Kind || !sameRow(got.Row, want.Row) || !same {
+			t.Errorf("it is taken back by %v; want %v", got, want)
+		}
+	}
+	is(gone.Undo(api.Change{Time: 3, Kind: api.OInsert, Row: row(8, "y")}), api.Change{Time: 3, Kind: api.ODelete})
+	is(there.Undo(api.Change{Time: 4, Kind: api.OUpdate, Sets: to("z")}), api.Change{Time: 4, Kind: api.OUpdate, Sets: to("x")})
+	is(there.Undo(api.Change{Time: 5, Kind: api.ODelete}), api.Change{Time: 5, Kind: api.OInsert, Row: first})
+	// Of columns that the row hasn't there is nothing to be taken back.
+	is(there.Undo(api.Change{Kind: api.OUpdate, Sets: []api.Set{{Col: -1}, {Col: 0}, {Col: 2}}}), api.Change{Kind: api.OUpdate, Sets: []api.Set{{Col: 0, Cell: number(7)}}})
+	is(gone.Undo(api.Change{Kind: api.OUpdate, Sets: to("z")}), api.Change{Kind: api.OUpdate})
+	is(gone.Undo(api.Change{Time: 6}), api.Change{Time: 6})
+	// What is answered isn't the state's own.
+	there.Undo(api.Change{Kind: api.OUpdate, Sets: to("z")}).Sets[0].Cell.B[0] = 'q'
+	there.Undo(api.Change{Kind: api.ODelete}).Row[1].B[0] = 'q'
+	if got, live := there.Tell(); !live || !sameRow(got, row(7, "x")) || !sameRow(first, row(7, "x")) {
+		t.Errorf("with what was answered the state changes to %v, %t", got, live)
+	}
+}
